@@ -1,0 +1,1 @@
+"""Which tests are enough for every sorting network."""
