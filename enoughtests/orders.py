@@ -2,8 +2,8 @@
 
 from enoughtests.errors import InvalidChain, InvalidFirst, InvalidPair, InvalidPairs, InvalidRow
 from enoughtests.errors import InvalidSize, InvalidSizes, NotFitting, NotOrder, Ring, TooLarge, UnlikeSizes
-from enoughtests.words import GREATEST_SIZE, count_ones, is_chain, is_integer, is_line, is_list, is_row, is_size
-from enoughtests.words import is_word
+from enoughtests.words import GREATEST_SIZE, count_ones, is_chain, is_integer, is_line, is_list, is_row_or_word
+from enoughtests.words import is_size
 
 GREATEST_SEARCHED_SIZE = 10
 
@@ -53,7 +53,7 @@ class Order:
 
     def fits(self, value):
         """Whether a row or a word of this size fits."""
-        if not is_row(value, self.size) and not is_word(value, self.size):
+        if not is_row_or_word(value, self.size):
             raise InvalidRow(value)
         return self._has_in_order(value)
 
@@ -166,6 +166,17 @@ def refuse_large(size, greatest=GREATEST_SEARCHED_SIZE):
     """Raises TooLarge for a size at which there is too much to search."""
     if size > greatest:
         raise TooLarge(size)
+
+
+def checked_known(known, size):
+    """The known order of a size, which has no pairs where known is None."""
+    if known is None:
+        return Order(size)
+    if not isinstance(known, Order):
+        raise NotOrder(known)
+    if known.size != size:
+        raise UnlikeSizes((size, known.size))
+    return known
 
 
 def checked_first(first, size):

@@ -43,9 +43,14 @@ def _has_size(value, size):
     return is_size(len(value)) and (size is None or len(value) == size)
 
 
+def is_row_or_word(value, size=None):
+    """Whether any value is a row, a list with the items of one, or a word, of this size if one is passed."""
+    return is_row(value, size) or is_word(value, size)
+
+
 def is_sorted(value):
     """Whether no item of a row or a word is greater than the next one."""
-    if not is_word(value) and not is_row(value):
+    if not is_row_or_word(value):
         raise InvalidRow(value)
     return all([value[line] <= value[line + 1] for line in range(len(value) - 1)])
 

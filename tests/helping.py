@@ -1,25 +1,46 @@
 """What the tests share."""
 
+import itertools
 import sys
 import unittest
 
 from enoughtests import errors
+from enoughtests.networks import Network
 from enoughtests.orders import Order
 
 
 class ProgramTest(unittest.TestCase):
     """A test case that knows the exceptions of the program."""
 
-    def assert_raises(self, name, value, call, *passed, **named):
+    def assert_raises(self, name, value, call, /, *passed, **named):
         """A call raises exactly this exception, which keeps this very value."""
         error = self._raised(name, call, passed, named)
         self.assertIs(self._kept(error), value)
 
-    def assert_raises_equal(self, name, value, call, *passed, **named):
+    def assert_raises_equal(self, name, value, call, /, *passed, **named):
         """A call raises exactly this exception, which keeps a value that equals this one."""
         error = self._raised(name, call, passed, named)
         kept = self._kept(error)
         self.assertEqual((type(kept), kept), (type(value), value))
+
+    def assert_due(self, call, right, *wrongs):
+        """Of several wrong arguments the one that stands first among these is told of, whatever the further ones are.
+
+        Each of them is the name of the exception, the arguments that make it due and the value that it keeps; without
+        the latter, the exception keeps the very argument.
+        """
+        for at, (name, changes, *kept) in enumerate(wrongs):
+            for many in range(len(wrongs) - at):
+                for others in itertools.combinations(wrongs[at + 1:], many):
+                    named = dict(right)
+                    for wrong in [*others, wrongs[at]]:
+                        named.update(wrong[1])
+                    with self.subTest(name, named=named):
+                        if kept:
+                            self.assert_raises_equal(name, *kept, call, **named)
+                        else:
+                            (value,) = changes.values()
+                            self.assert_raises(name, value, call, **named)
 
     def _raised(self, name, call, passed, named):
         with self.assertRaises(errors.SorterError) as caught:
@@ -38,8 +59,31 @@ def wrong_values():
         None, True, False, "", " ", "a", "2", "012", "0 1", "01\n", "-1", "00" * 500, "0" * 61,
         [], (), {}, {"a": 1}, {0: 1}, [None], [True], (False,), ["0"], ("1",), [0, "1"], (0, None), [[0]],
         ((0, 1),), [[0], [1]], {"0": [1]}, [{}], (0, (1,)), [0] * 61, tuple(range(61)),
-        Order(2), Order(3, [(0, 1)]), [Order(1)],
+        Order(2), Order(3, [(0, 1)]), [Order(1)], Network(2), Network(3, [(0, 1)]), [Network(1)],
     ]
+
+
+def wrong_networks():
+    """Values of all kinds that are no networks."""
+    values = [0, 3, "3:", "3: 0-1", "01", [(0, 1)], ((0, 1),), (3, ()), (3, [(0, 1)]), *wrong_values()]
+    return [value for value in values if not isinstance(value, Network)]
+
+
+def wrong_orders():
+    """Values of all kinds, other than None, that are no orders."""
+    values = [0, 3, "01", [(0, 1)], ((0, 1),), (3, ()), *wrong_values()]
+    return [value for value in values if value is not None and not isinstance(value, Order)]
+
+
+def wrong_firsts(size):
+    """Values of all kinds, other than None, that are no integers from 1 to a size."""
+    values = [0, -1, size + 1, 61, 10 ** 29, "1", [1], (1,), *wrong_values()]
+    return [value for value in values if value is not None]
+
+
+def wrong_lines(size):
+    """Values of all kinds that are no integers from 0 to a size minus 1."""
+    return [-1, size, size + 1, 60, -size, 10 ** 29, "0", [0], (0,), *wrong_values()]
 
 
 def count_events(call):
@@ -51,3 +95,81 @@ def count_events(call):
     finally:
         sys.setprofile(None)
     return len(events)
+
+
+def all_pairs(size):
+    return list(itertools.permutations(range(size), 2))
+
+
+def some_pairs(size, most):
+    """All lists of at most so many different pairs of a size."""
+    for many in range(most + 1):
+        yield from itertools.combinations(all_pairs(size), many)
+
+
+def reached(pairs):
+    """All pairs that follow, those of a line with itself included, found in the plainest way."""
+    found = set(pairs)
+    while True:
+        more = {(a, d) for a, b in found for c, d in found if b == c} - found
+        if not more:
+            return sorted(found)
+        found |= more
+
+
+def orders(size, most):
+    """All orders of a size that come of at most so many pairs."""
+    seen = {tuple(reached(pairs)) for pairs in some_pairs(size, most)}
+    return [Order(size, pairs) for pairs in sorted(seen) if all(a != b for a, b in pairs)]
+
+
+def all_words(size):
+    return ["".join(letters) for letters in itertools.product("01", repeat=size)]
+
+
+def fitting(values, order):
+    return [value for value in values if all(value[a] <= value[b] for a, b in order.pairs)]
+
+
+def all_rows(size):
+    """All rows of a size whose items, which may be equal, are from 0 to the size minus 1."""
+    return list(itertools.product(range(size), repeat=size))
+
+
+def plain_rows(size):
+    """All rows of a size with the integers from 0 to the size minus 1 as their items, in ascending order."""
+    return list(itertools.permutations(range(size)))
+
+
+def all_steps(size):
+    return list(itertools.combinations(range(size), 2))
+
+
+def networks(size, most):
+    """All networks of a size with at most so many steps."""
+    return [Network(size, list(steps)) for many in range(most + 1)
+            for steps in itertools.product(all_steps(size), repeat=many)]
+
+
+def mixed_network(size):
+    """A network of a size whose steps go hither and thither."""
+    return Network(size, sorted(all_steps(size), key=lambda step: (step[0] * 5 + step[1] * 3) % 7))
+
+
+def made(steps, items):
+    """The items behind some steps, made in the plainest way."""
+    items = list(items)
+    for i, j in steps:
+        items[i], items[j] = min(items[i], items[j]), max(items[i], items[j])
+    return items
+
+
+def cases():
+    """Networks of small sizes, each one with known orders."""
+    longer = [[(0, 1), (2, 3), (0, 2), (1, 3)], [(0, 1), (2, 3), (0, 2), (1, 3), (1, 2)], [(0, 3), (1, 2), (0, 1)],
+              [(2, 3), (2, 3), (1, 2), (0, 1), (0, 3)], [(1, 3), (0, 2), (0, 1), (2, 3)]]
+    found = [(Network(1), Order(1))]
+    found += itertools.product(networks(2, 2), orders(2, 2))
+    found += itertools.product(networks(3, 3), orders(3, 6))
+    found += itertools.product([*networks(4, 1), *[Network(4, steps) for steps in longer]], orders(4, 12)[::11])
+    return found

@@ -5,41 +5,7 @@ import unittest
 from enoughtests.orders import Order, chains, needed
 from enoughtests.words import is_sorted, mirrored, words_of
 
-from helping import ProgramTest, count_events, wrong_values
-
-
-def all_pairs(size):
-    return list(itertools.permutations(range(size), 2))
-
-
-def some_pairs(size, most):
-    """All lists of at most so many different pairs of a size."""
-    for many in range(most + 1):
-        yield from itertools.combinations(all_pairs(size), many)
-
-
-def reached(pairs):
-    """All pairs that follow, those of a line with itself included, found in the plainest way."""
-    found = set(pairs)
-    while True:
-        more = {(a, d) for a, b in found for c, d in found if b == c} - found
-        if not more:
-            return sorted(found)
-        found |= more
-
-
-def orders(size, most):
-    """All orders of a size that come of at most so many pairs."""
-    seen = {tuple(reached(pairs)) for pairs in some_pairs(size, most)}
-    return [Order(size, pairs) for pairs in sorted(seen) if all(a != b for a, b in pairs)]
-
-
-def all_words(size):
-    return ["".join(letters) for letters in itertools.product("01", repeat=size)]
-
-
-def fitting(values, order):
-    return [value for value in values if all(value[a] <= value[b] for a, b in order.pairs)]
+from helping import ProgramTest, all_words, count_events, fitting, orders, reached, some_pairs, wrong_values
 
 
 def fitting_chains(order):

@@ -3,11 +3,7 @@ import unittest
 
 from enoughtests.words import below, is_integer, is_row, is_sorted, is_word, mirrored, row_of, words_of, zeros
 
-from helping import ProgramTest, wrong_values
-
-
-def all_words(size):
-    return ["".join(letters) for letters in itertools.product("01", repeat=size)]
+from helping import ProgramTest, all_words, wrong_values
 
 
 def small_rows():
