@@ -2,7 +2,10 @@
 
 from enoughtests.errors import InvalidLines, InvalidRow, InvalidSize, InvalidStep, InvalidSteps, InvalidText
 from enoughtests.errors import NoStep, NotNetwork, TooLarge, UnlikeSizes
-from enoughtests.words import GREATEST_SIZE, is_line, is_list, is_row_or_word, is_size
+from enoughtests.words import GREATEST_SIZE, is_line, is_list, is_row_or_word, is_size, natural_in, naturals_in
+
+# No size and no line has more digits.
+MOST_DIGITS = 2
 
 
 class Network:
@@ -92,8 +95,8 @@ class Network:
         if not isinstance(text, str):
             raise InvalidText(text)
         head, *words = text.split(" ")
-        size = _number_of(head[:-1])
-        steps = [_numbers_of(word) for word in words]
+        size = natural_in(head[:-1], MOST_DIGITS)
+        steps = [naturals_in(word, MOST_DIGITS) for word in words]
         if not head.endswith(":") or not is_size(size) or not all([_is_step(step, size) for step in steps]):
             raise InvalidText(text)
         return cls(size, steps)
@@ -120,21 +123,6 @@ def _make_step(items, step):
 def _in_kind_of(value, items):
     """Items as a word, if the value is one, or else as a row."""
     return "".join(items) if isinstance(value, str) else tuple(items)
-
-
-def _number_of(text):
-    """The number with a decimal notation of at most two digits, or None if there is none."""
-    if len(text) > 2 or not text.isdecimal():
-        return None
-    number = int(text)
-    # This leaves out those with a leading zero.
-    return number if str(number) == text else None
-
-
-def _numbers_of(text):
-    """The two numbers that stand ahead of the first - and behind it, with None for what is none."""
-    one, _, other = text.partition("-")
-    return _number_of(one), _number_of(other)
 
 
 def require_network(value):

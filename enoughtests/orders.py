@@ -3,7 +3,7 @@
 from enoughtests.errors import InvalidChain, InvalidFirst, InvalidPair, InvalidPairs, InvalidRow
 from enoughtests.errors import InvalidSize, InvalidSizes, NotFitting, NotOrder, Ring, TooLarge, UnlikeSizes
 from enoughtests.words import GREATEST_SIZE, count_ones, is_chain, is_integer, is_line, is_list, is_row_or_word
-from enoughtests.words import is_size
+from enoughtests.words import is_size, may_be_needed
 
 GREATEST_SEARCHED_SIZE = 10
 
@@ -214,5 +214,4 @@ def needed(order, *, first=None):
     if not isinstance(order, Order):
         raise NotOrder(order)
     most = checked_first(first, order.size)
-    # A word is not sorted exactly if a 1 stands right ahead of a 0.
-    return [word for word in order.words() if "10" in word and word.count("0") <= most]
+    return [word for word in order.words() if may_be_needed(word, most)]

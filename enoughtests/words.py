@@ -10,6 +10,21 @@ def is_integer(value):
     return isinstance(value, int) and not isinstance(value, bool)
 
 
+def natural_in(text, most):
+    """The number with a decimal notation of at most so many digits, or None if there is none."""
+    if len(text) > most or not text.isdecimal():
+        return None
+    number = int(text)
+    # This leaves out those with a leading zero.
+    return number if str(number) == text else None
+
+
+def naturals_in(text, most):
+    """The two numbers that stand ahead of the first - and behind it, with None for what is none."""
+    one, _, other = text.partition("-")
+    return natural_in(one, most), natural_in(other, most)
+
+
 def is_size(value):
     """Whether any value is a size."""
     return is_integer(value) and 1 <= value <= GREATEST_SIZE
@@ -53,6 +68,12 @@ def is_sorted(value):
     if not is_row_or_word(value):
         raise InvalidRow(value)
     return all([value[line] <= value[line + 1] for line in range(len(value) - 1)])
+
+
+def may_be_needed(word, most):
+    """Whether a word is not sorted and has at most so many zeros; it is needed if it fits as well."""
+    # A word is not sorted exactly if a 1 stands right ahead of a 0.
+    return "10" in word and word.count("0") <= most
 
 
 def zeros(word):

@@ -4,6 +4,8 @@ import importlib
 import inspect
 import unittest
 
+LISTED = "(size, tests, *, known=None, first=None)"
+
 FUNCTIONS = {
     "words": {
         "is_integer": "(value)", "is_word": "(value, size=None)", "is_row": "(value, size=None)",
@@ -27,6 +29,30 @@ FUNCTIONS = {
         "idle_steps": "(network, *, known=None)",
     },
     "near": {"near_sorter": "(word)", "is_near_sorter": "(network, word)", "only_failing": "(network)"},
+    "covering": {
+        "covered": LISTED, "missing": LISTED, "passes": "(network, tests, *, first=None)", "are_enough": LISTED,
+        "counter": LISTED, "is_counter": "(size, tests, value, *, known=None, first=None)",
+        "implies": "(size, one, other, *, known=None, first=None)",
+        "parting_network": "(size, one, other, *, known=None, first=None)",
+    },
+    "sure": {
+        "is_sure": "(size, tests, row, *, known=None, first=None)",
+        "doubt": "(size, tests, row, *, known=None, first=None)",
+        "sure_count": LISTED, "sure_rows": LISTED, "doubtful_row": LISTED,
+    },
+    "needs": {"vital": LISTED, "thinned": LISTED, "strength": LISTED},
+    "fewest": {
+        "fewest": "(size, *, known=None, first=None)", "further": LISTED,
+        "bar": "(size, *, known=None, first=None)", "further_bar": LISTED,
+        "is_bar": "(size, tests, value, *, known=None, first=None)",
+        "fewest_count": "(size, tests=(), *, known=None, first=None)",
+    },
+    "families": {
+        "needed_count": "(size, *, first=None)", "family_count": "(size, *, first=None)", "shape_of": "(word)",
+        "row_of_shape": "(shape)", "test_of": "(word)", "family": "(size, *, first=None)",
+        "nth_shape": "(size, number, *, first=None)", "shape_number": "(shape, *, first=None)",
+        "merge_needed": "(one, other)", "merge_tests": "(one, other)",
+    },
 }
 
 CLASSES = {
@@ -42,6 +68,15 @@ CLASSES = {
         "__iter__": "(self)", "__eq__": "(self, other)", "__mul__": "(self, other)", "__invert__": "(self)",
         "__str__": "(self)",
     },
+    ("bench", "Bench"): {
+        "__init__": "(self, size)", "__len__": "(self)", "__contains__": "(self, value)",
+        "__getitem__": "(self, name)", "names": "(self)", "kind": "(self, name)", "put": "(self, name, thing)",
+        "add": "(self, name, item)", "drop": "(self, name)", "rename": "(self, name, other)", "undo": "(self)",
+        "trial": "(self)", "tried": "(self, act)", "right": "(self, network, order=None, *, first=None)",
+        "enough": "(self, tests, order=None, *, first=None)", "passed": "(self, network, tests, *, first=None)",
+        "refuted": "(self, tests, order=None, *, first=None)",
+    },
+    ("console", "Console"): {"__init__": "(self, bench)", "__call__": "(self, line)", "run": "(self, lines)"},
 }
 
 

@@ -5,8 +5,8 @@ from enoughtests.judging import failing_row, failing_word, failing_words, is_fai
 from enoughtests.networks import Network, sorter
 from enoughtests.orders import Order, chains
 
-from helping import ProgramTest, all_rows, all_words, cases, fitting, made, mixed_network, networks, orders
-from helping import plain_rows, wrong_firsts, wrong_networks, wrong_orders, wrong_values
+from helping import ProgramTest, all_firsts, all_rows, all_words, cases, fitting, made, mixed_network, networks
+from helping import orders, plain_rows, wrong_firsts, wrong_networks, wrong_orders, wrong_values
 
 SEARCHING = [sorts, failing_words, failing_word, failing_row]
 
@@ -15,10 +15,6 @@ def brings_out(network, value, first):
     """Whether a network works for a row or a word, told in the plainest way."""
     most = network.size if first is None else first
     return made(network, value)[:most] == sorted(value)[:most]
-
-
-def all_firsts(size):
-    return [None, *range(1, size + 1)]
 
 
 class Examples(unittest.TestCase):

@@ -176,6 +176,73 @@ class Language(unittest.TestCase):
                 self.assertTrue(getattr(decorator, "id", None) in DECORATORS
                                 or getattr(decorator, "attr", None) == "setter", place)
 
+    def test_no_two_files_import_from_each_other(self):
+        imports = {}
+        for path in files():
+            tree = ast.parse(path.read_text("utf-8"))
+            imports[f"enoughtests.{path.stem}"] = {node.module for node in tree.body if isinstance(node, ast.ImportFrom)}
+        left = set(imports)
+        while left:
+            ends = {name for name in left if not imports[name] & left}
+            self.assertTrue(ends, left)
+            left -= ends
+
+    def test_is_stands_beside_none_true_and_false_only(self):
+        for place, node in nodes_of(ast.Compare):
+            if any(isinstance(sign, (ast.Is, ast.IsNot)) for sign in node.ops):
+                self.assertIn(getattr(node.comparators[0], "value", 0), (None, True, False), place)
+
+    def test_sets_are_measured_or_sorted_at_once(self):
+        self.assertEqual(nodes_of(ast.Set), [])
+        for path in files():
+            tree = ast.parse(path.read_text("utf-8"))
+            parents = {child: node for node in ast.walk(tree) for child in ast.iter_child_nodes(node)}
+            for node, parent in parents.items():
+                is_call = isinstance(node, ast.Call) and getattr(node.func, "id", None) == "set"
+                if is_call or isinstance(node, ast.SetComp):
+                    self.assertIsInstance(parent, ast.Call, path.name)
+                    self.assertIn(getattr(parent.func, "id", None), ("len", "sorted"), path.name)
+
+    def test_classes_with_items_are_not_iterated_over_by_them(self):
+        for place, node in nodes_of(ast.ClassDef):
+            methods = {child.name for child in node.body if isinstance(child, ast.FunctionDef)}
+            if "__getitem__" in methods:
+                self.assertIn("__iter__", methods, place)
+            self.assertNotIn("keys", methods, place)
+        for path in files():
+            self.assertNotRegex(path.read_text("utf-8"), r"\(type\)|Meta|metaclass=")
+
+    def test_the_end_of_a_with_block_only_assigns(self):
+        for place, node in nodes_of(ast.FunctionDef):
+            if node.name == "__exit__":
+                for row in node.body:
+                    self.assertIsInstance(row, ast.Assign, place)
+                    self.assertIsInstance(row.value, ast.Attribute, place)
+
+    def test_no_name_is_that_of_a_method_and_of_an_attribute(self):
+        attributes = {node.attr for _, node in nodes_of(ast.Attribute) if isinstance(node.ctx, ast.Store)}
+        for place, node in nodes_of(ast.ClassDef):
+            for child in node.body:
+                if isinstance(child, ast.FunctionDef):
+                    self.assertNotIn(child.name, attributes, place)
+
+    def test_lists_and_dicts_of_a_file_hold_no_lists_and_dicts(self):
+        for path in files():
+            for node in [node for node in ast.parse(path.read_text("utf-8")).body if isinstance(node, ast.Assign)]:
+                inner = [part for part in ast.walk(node.value) if isinstance(part, (ast.List, ast.Dict))]
+                self.assertLessEqual(len(inner), 1, path.name)
+                self.assertFalse(any(isinstance(part, (ast.Call, ast.ListComp)) for part in ast.walk(node.value)))
+
+    def test_what_a_loop_iterates_over_is_not_changed_in_it(self):
+        changing = {"append", "extend", "insert", "pop", "remove", "clear", "update", "reverse", "setdefault"}
+        for place, node in nodes_of(ast.For):
+            over = {part.id for part in ast.walk(node.iter) if isinstance(part, ast.Name)}
+            for part in [part for row in node.body for part in ast.walk(row)]:
+                if isinstance(part, ast.Call) and isinstance(part.func, ast.Attribute) and part.func.attr in changing:
+                    self.assertNotIn(getattr(part.func.value, "id", None), over, place)
+                if isinstance(part, ast.Subscript) and not isinstance(part.ctx, ast.Load):
+                    self.assertNotIn(getattr(part.value, "id", None), over, place)
+
     def test_no_generator_expressions_beside_own_comparisons(self):
         if any(node.name == "__eq__" for _, node in nodes_of(ast.FunctionDef)):
             self.assertEqual([place for place, _ in nodes_of(ast.GeneratorExp)], [])
