@@ -31,7 +31,7 @@ def sure_rows(size, tests, *, known=None, first=None):
     """Goes through the rows that fit, have the integers from 0 on and are sure, in ascending order."""
     _, sure = _fitting_and_sure_words(size, tests, known, first)
     # Each head is one that some sure row begins with, so no time is spent on dead ends.
-    heads = [()] if _count_rows((), size, sure) > 0 else []
+    heads = [()]
     while len(heads) > 0:
         head = heads.pop()
         if len(head) == size:
